@@ -24,7 +24,8 @@ type reader struct {
 func read(text string) api.Schema {
 	var r reader
 	r.refuse(len(text) > api.MaxText, api.ErrTextLong)
-	for i, line := range strings.Split(text, lineEnd) {
+	// A copy is read: the names are pieces of it, and the text itself isn't kept.
+	for i, line := range strings.Split(strings.Clone(text), lineEnd) {
 		r.line = i + 1
 		if line != "" {
 			r.readLine(strings.Split(line, blank))

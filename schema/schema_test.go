@@ -7,6 +7,7 @@ import (
 	"strconv"
 	"strings"
 	"testing"
+	"unsafe"
 
 	"muster/api"
 )
@@ -596,6 +597,16 @@ func TestAnswersShareNothing(t *testing.T) {
 	s.Tables[1].Indexes[0].Over = []int{1, 0}
 	if !same(s, wholeSchema()) {
 		t.Errorf("another index: %v", s)
+	}
+}
+
+// Not even the names are pieces of the text that was handed in.
+func TestTextIsNotKept(t *testing.T) {
+	room := []byte(whole)
+	s, _, _ := Parse(unsafe.String(&room[0], len(room)))
+	clear(room)
+	if !same(s, wholeSchema()) {
+		t.Errorf("Parse keeps its text: %v", s)
 	}
 }
 
